@@ -1,0 +1,1 @@
+"""Dropframes: films of machines, frames left out."""

@@ -1,0 +1,84 @@
+"""What the arguments of the package's functions must be, and the errors for what they must not."""
+
+from dropframes.errors import BadFilm, BadGap, BadReel, BadReels
+
+MOST_STATES = 6
+FEWEST_REELS = 2
+MOST_REELS = 6
+MOST_GAP = 20
+MOST_FRAMES = 1000
+LAST_PICTURE = 99
+
+
+def is_integer(value, low, high):
+    """Tell whether a value is an integer from low to high."""
+    # Python counts True and False among the integers, the package does not.
+    return isinstance(value, int) and not isinstance(value, bool) and low <= value <= high
+
+
+def is_picture(value):
+    """Tell whether a value is a picture."""
+    return is_integer(value, 0, LAST_PICTURE)
+
+
+def is_film(value):
+    """Tell whether a value is a film of at most 1000 frames."""
+    if not isinstance(value, tuple) or len(value) > MOST_FRAMES:
+        return False
+    return all([is_picture(picture) for picture in value])
+
+
+def is_next_row(value, many):
+    """Tell whether a value is an ascending tuple, not empty, of states out of so many."""
+    if not isinstance(value, tuple) or len(value) == 0:
+        return False
+    if not all([is_integer(state, 0, many - 1) for state in value]):
+        return False
+    return list(value) == sorted(set(value))
+
+
+def are_nexts(value):
+    """Tell whether a value tells for each of 1 to 6 states which may come next."""
+    if not isinstance(value, tuple) or not 1 <= len(value) <= MOST_STATES:
+        return False
+    return all([is_next_row(row, len(value)) for row in value])
+
+
+def wrong_part(value):
+    """Return the first of the words "reel", "nexts", "pictures" that names what is wrong, None for a reel."""
+    if not isinstance(value, tuple) or len(value) != 2:
+        return "reel"
+    nexts, pictures = value
+    if not are_nexts(nexts):
+        return "nexts"
+    if not is_film(pictures) or len(pictures) != len(nexts):
+        return "pictures"
+    return None
+
+
+def check_reel(reel):
+    """Raise BadReel for a value that is no reel."""
+    part = wrong_part(reel)
+    if part is not None:
+        raise BadReel(part)
+
+
+def check_reels(reels):
+    """Raise BadReels for a value that is no tuple of 2 to 6 reels."""
+    if not isinstance(reels, tuple) or not FEWEST_REELS <= len(reels) <= MOST_REELS:
+        raise BadReels(None)
+    for number, reel in enumerate(reels):
+        if wrong_part(reel) is not None:
+            raise BadReels(number)
+
+
+def check_gap(gap):
+    """Raise BadGap for a value that is no gap."""
+    if gap is not None and not is_integer(gap, 0, MOST_GAP):
+        raise BadGap("a gap is an integer from 0 to 20, or None")
+
+
+def check_film(film):
+    """Raise BadFilm for a value that is no film of at most 1000 frames."""
+    if not is_film(film):
+        raise BadFilm("a film is a tuple of at most 1000 integers from 0 to 99")

@@ -1,0 +1,162 @@
+"""What the tests share: values of every kind, reels by chance, and answers worked out run by run.
+
+Nothing here imports the package: the answers are worked out from the words of the document alone.
+"""
+
+import itertools
+
+# Values of every kind that may be passed. None is left out: it is a gap.
+VALUES = [
+    -1, 0, 1, 6, 20, 21, 99, 100, 1000, 10 ** 40, -10 ** 40,
+    "", "0", "reel", "01", True, False,
+    (), (0,), (0, 1), (5, 5), (0, 99), (0, 100), (-1,), (True,), (False, 0), (None,), ("0",), ("a", "b"), ((),), ((), ()),
+    ((0,),), ((0,), (0,)), ([0], (0,)), (None, None), (0, 1, 2), (0, (1, 2)),
+    [], [0], [(0,), (0,)], [((0,),), (5,)], [[[0]], [5]],
+    {}, {0: 0}, {0: ((0,),), 1: (5,)}, {"nexts": ((0,),), "pictures": (0,)},
+]
+
+# The simplest reel, and two on which a film soon tells.
+STILL = (((0,),), (7,))
+ONE = (((1,), (1,)), (0, 1))
+OTHER = (((1,), (1,)), (0, 2))
+
+# What is no reel, with the part that is wrong.
+WRONG_REELS = [(value, "reel") for value in VALUES if not isinstance(value, tuple) or len(value) != 2] + [
+    (None, "reel"), ((((0,),), (5,), ()), "reel"), ((((0,),),), "reel"), ([((0,),), (5,)], "reel"),
+    ((0, 1), "nexts"), ((5, 5), "nexts"), ((None, None), "nexts"), (("a", "b"), "nexts"), (((), ()), "nexts"),
+    (((0,), (0,)), "nexts"), (([(0,)], (5,)), "nexts"), ((([0],), (5,)), "nexts"), (({0: (0,)}, (5,)), "nexts"),
+    ((((),), (5,)), "nexts"), ((((1,),), (5,)), "nexts"), ((((-1,),), (5,)), "nexts"), ((((False,),), (5,)), "nexts"),
+    ((((0, 0),), (5,)), "nexts"), ((((1, 0), (0,)), (5, 5)), "nexts"), ((((0, True), (0,)), (5, 5)), "nexts"),
+    ((((0,), ()), (5, 5)), "nexts"), ((((0,), (2,)), (5, 5)), "nexts"), ((((0,), 0), (5, 5)), "nexts"),
+    ((((0,), None), (5, 5)), "nexts"), (((("0",),), (5,)), "nexts"), (((((0,),),), (5,)), "nexts"),
+    ((((0,),) * 7, (5,) * 7), "nexts"), ((((0,),) * 7, (5,) * 6), "nexts"), ((((1,),), (100,)), "nexts"),
+    (("0", "5"), "nexts"), ((True, False), "nexts"), (((), (5,)), "nexts"), (((((), 0),), (5,)), "nexts"),
+    ((((0,),), ()), "pictures"), ((((0,),), (5, 5)), "pictures"), ((((0,), (0,)), (5,)), "pictures"),
+    ((((0,),), 5), "pictures"), ((((0,),), None), "pictures"), ((((0,),), [5]), "pictures"),
+    ((((0,),), {0: 5}), "pictures"), ((((0,),), "5"), "pictures"), ((((0,),), ("5",)), "pictures"),
+    ((((0,),), (True,)), "pictures"), ((((0,),), (False,)), "pictures"), ((((0,),), (None,)), "pictures"),
+    ((((0,),), (-1,)), "pictures"), ((((0,),), (100,)), "pictures"), ((((0,),), ((5,),)), "pictures"),
+    ((((0,), (1,)), (5, 10 ** 40)), "pictures"), ((((0,),) * 6, (5,) * 7), "pictures"),
+]
+
+# What is no tuple of 2 to 6 reels, with the index of the first that is no reel.
+WRONG_MANY = [(value, None) for value in VALUES if not isinstance(value, tuple) or not 2 <= len(value) <= 6] + [
+    (None, None), ((STILL,), None), ((STILL,) * 7, None), ([STILL, STILL], None), ({0: STILL, 1: STILL}, None),
+    ((0,) * 7, None), ((STILL, 0), 1), ((0, STILL), 0), ((0, 0), 0), (("a", "b"), 0), ((None, None), 0),
+    ((STILL, None), 1), ((STILL,) * 5 + (True,), 5), ((STILL, STILL, (((1,),), (0,)), STILL, 0), 2),
+    ((STILL, [((0,),), (7,)]), 1), ((STILL, (((0,),), (100,))), 1), (STILL, 0), ((STILL, STILL, ()), 2),
+]
+
+WRONG_GAPS = [value for value in VALUES if isinstance(value, bool) or value not in range(21)]
+
+WRONG_FILMS = [None] + [value for value in VALUES if not isinstance(value, tuple)] + [
+    (100,), (-1,), (True,), (0, False), (None,), ("0",), ((),), ((0,),), ([0],), (0, 1, 100), (0, 10 ** 40), (7,) * 1001,
+    (7,) * 5000, (7,) * 999 + (100,), ({},),
+]
+
+
+def drawn_reel(chance, most_states, pool):
+    """Draw a reel of at most so many states, with pictures out of a pool."""
+    many = chance.randint(1, most_states)
+    # Half of the reels mostly go forward, to a state with a picture of its own: open films that end are not rare.
+    forward = chance.random() < 0.5
+    nexts = []
+    for state in range(many):
+        least = min(state + 1, many - 1) if forward and chance.random() < 0.85 else 0
+        lot = range(least, many)
+        nexts.append(tuple(sorted(chance.sample(lot, min(len(lot), chance.choice([1, 1, 1, 2, 2, 3, 6]))))))
+    pictures = [chance.choice(pool) for _ in range(many)]
+    if forward:
+        pictures[-1] = chance.randint(0, 99)
+    return tuple(nexts), tuple(pictures)
+
+
+def drawn_pool(chance):
+    """Draw pictures from the whole range, the least and the greatest one not rarely, the first one often."""
+    pool = chance.sample(range(100), chance.choice([1, 1, 2, 2, 3, 5])) + chance.sample([0, 99], chance.choice([0, 0, 1, 2]))
+    return pool + pool[:1] * 3
+
+
+def small_reels(pictures):
+    """Return all reels of one state and of two with these pictures."""
+    rows = [(0,), (1,), (0, 1)]
+    return [(((0,),), (picture,)) for picture in pictures] + [
+        (nexts, shown) for nexts in itertools.product(rows, repeat=2) for shown in itertools.product(pictures, repeat=2)]
+
+
+def runs(reel, many):
+    """Return the first so many states of each run."""
+    found = [(0,)]
+    for _ in range(many - 1):
+        found = [run + (state,) for run in found for state in reel[0][run[-1]]]
+    return found
+
+
+def films_of_runs(reel, gap, many):
+    """Return all films of so many frames, each with the states at its last frame, run by run."""
+    left_out = len(reel[0]) if gap is None else gap
+    found = {}
+    for run in runs(reel, many * (left_out + 1)):
+        for places in itertools.combinations(range(len(run)), many):
+            skipped = [place - before - 1 for before, place in zip((-1,) + places, places)]
+            if max(skipped) <= left_out:
+                film = tuple(reel[1][run[place]] for place in places)
+                found.setdefault(film, set()).add(run[places[-1]])
+    return found
+
+
+def last_states(reel, gap, film, first=0):
+    """Return the states at which the last frame of a film may be, going along the runs state by state.
+
+    The runs begin at the state named first.
+    """
+    nexts, pictures = reel
+    # Any number left out: more in a row than there are states only come by a state again.
+    most = len(nexts) if gap is None else gap
+    found, met, waiting = set(), set(), [(first, 0, 0)]
+    while waiting:
+        at = waiting.pop()
+        if at in met:
+            continue
+        met.add(at)
+        state, left_out, shown = at
+        if not film:
+            found.add(state)
+        elif pictures[state] == film[shown]:
+            if shown + 1 == len(film):
+                found.add(state)
+            else:
+                waiting += [(after, 0, shown + 1) for after in nexts[state]]
+        if left_out < most:
+            waiting += [(after, left_out + 1, shown) for after in nexts[state]]
+    return tuple(sorted(found))
+
+
+def open_films(one, other, gap, many, first=0, twin=0):
+    """Return the films of so many frames that both reels can show, film by film."""
+    pictures = sorted(set(one[1]) & set(other[1]))
+    found = [()]
+    for _ in range(many):
+        longer = [film + (picture,) for film in found for picture in pictures]
+        found = [film for film in longer if last_states(one, gap, film, first) and last_states(other, gap, film, twin)]
+    return found
+
+
+def recurring(reel):
+    """Return the states that recur, run by run: each comes within so many states as there are, or never."""
+    many = len(reel[0])
+    come = {state for run in runs(reel, many) for state in run}
+    again = set()
+    for state in come:
+        ways = [(state,)]
+        for _ in range(many):
+            ways = list({(way[-1], after) for way in ways for after in reel[0][way[-1]]})
+            if any(way[-1] == state for way in ways):
+                again.add(state)
+    return tuple(sorted(again))
+
+
+def passed(reel):
+    """Return the most states on one run that do not recur, run by run."""
+    back = recurring(reel)
+    return max(len(set(run) - set(back)) for run in runs(reel, len(reel[0])))
