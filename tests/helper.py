@@ -9,8 +9,8 @@ import itertools
 VALUES = [
     -1, 0, 1, 6, 20, 21, 99, 100, 1000, 10 ** 40, -10 ** 40,
     "", "0", "reel", "01", True, False,
-    (), (0,), (0, 1), (5, 5), (0, 99), (0, 100), (-1,), (True,), (False, 0), (None,), ("0",), ("a", "b"), ((),), ((), ()),
-    ((0,),), ((0,), (0,)), ([0], (0,)), (None, None), (0, 1, 2), (0, (1, 2)),
+    (), (0,), (0, 1), (5, 5), (0, 99), (0, 100), (-1,), (True,), (False, 0), (None,), ("0",), ("a", "b"), ((),),
+    ((), ()), ((0,),), ((0,), (0,)), ([0], (0,)), (None, None), (0, 1, 2), (0, (1, 2)),
     [], [0], [(0,), (0,)], [((0,),), (5,)], [[[0]], [5]],
     {}, {0: 0}, {0: ((0,),), 1: (5,)}, {"nexts": ((0,),), "pictures": (0,)},
 ]
@@ -50,8 +50,8 @@ WRONG_MANY = [(value, None) for value in VALUES if not isinstance(value, tuple) 
 WRONG_GAPS = [value for value in VALUES if isinstance(value, bool) or value not in range(21)]
 
 WRONG_FILMS = [None] + [value for value in VALUES if not isinstance(value, tuple)] + [
-    (100,), (-1,), (True,), (0, False), (None,), ("0",), ((),), ((0,),), ([0],), (0, 1, 100), (0, 10 ** 40), (7,) * 1001,
-    (7,) * 5000, (7,) * 999 + (100,), ({},),
+    (100,), (-1,), (True,), (0, False), (None,), ("0",), ((),), ((0,),), ([0],), (0, 1, 100), (0, 10 ** 40),
+    (7,) * 1001, (7,) * 5000, (7,) * 999 + (100,), ({},),
 ]
 
 
@@ -73,15 +73,16 @@ def drawn_reel(chance, most_states, pool):
 
 def drawn_pool(chance):
     """Draw pictures from the whole range, the least and the greatest one not rarely, the first one often."""
-    pool = chance.sample(range(100), chance.choice([1, 1, 2, 2, 3, 5])) + chance.sample([0, 99], chance.choice([0, 0, 1, 2]))
-    return pool + pool[:1] * 3
+    pool = chance.sample(range(100), chance.choice([1, 1, 2, 2, 3, 5]))
+    return pool + chance.sample([0, 99], chance.choice([0, 0, 1, 2])) + pool[:1] * 3
 
 
 def small_reels(pictures):
     """Return all reels of one state and of two with these pictures."""
     rows = [(0,), (1,), (0, 1)]
-    return [(((0,),), (picture,)) for picture in pictures] + [
-        (nexts, shown) for nexts in itertools.product(rows, repeat=2) for shown in itertools.product(pictures, repeat=2)]
+    single = [(((0,),), (picture,)) for picture in pictures]
+    twos = list(itertools.product(pictures, repeat=2))
+    return single + [(nexts, shown) for nexts in itertools.product(rows, repeat=2) for shown in twos]
 
 
 def runs(reel, many):

@@ -1,4 +1,4 @@
-"""What holds of every function (point 1): wrong arguments, their errors and their sequence, arguments left as they are."""
+"""What holds of every function (point 1): wrong arguments, their errors, arguments left as they are."""
 
 import copy
 import itertools

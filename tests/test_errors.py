@@ -20,8 +20,8 @@ class Errors(unittest.TestCase):
                 error = getattr(errors, name)
                 self.assertEqual(error.__bases__, (errors.ReelError,))
                 self.assertEqual(error.__module__, "dropframes.errors")
-        self.assertEqual(
-            sorted(error.__name__ for error in errors.ReelError.__subclasses__()), sorted(WITHOUT_FIELDS + list(FIELDS)))
+        found = [error.__name__ for error in errors.ReelError.__subclasses__()]
+        self.assertEqual(sorted(found), sorted(WITHOUT_FIELDS + list(FIELDS)))
 
     def test_fields(self):
         for name, field in FIELDS.items():

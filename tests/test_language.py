@@ -9,19 +9,22 @@ import unittest
 FOLDER = os.path.join(os.path.dirname(os.path.dirname(os.path.abspath(__file__))), "dropframes")
 
 BUILTINS = set((
-    "len range enumerate zip min max sum abs sorted reversed int str bool list tuple dict set isinstance ord repr any all "
-    "divmod super property staticmethod classmethod iter next map Exception ValueError TypeError KeyError IndexError "
-    "LookupError ZeroDivisionError NotImplementedError NotImplemented").split())
+    "len range enumerate zip min max sum abs sorted reversed int str bool list tuple dict set isinstance ord repr "
+    "any all divmod super property staticmethod classmethod iter next map Exception ValueError TypeError KeyError "
+    "IndexError LookupError ZeroDivisionError NotImplementedError NotImplemented").split())
 
 METHODS = set((
-    "append clear copy count endswith extend find get index insert isalnum isalpha isdigit islower isspace isupper items "
-    "join keys ljust lower lstrip partition pop remove replace reverse rfind rjust rpartition rsplit rstrip setdefault "
-    "split splitlines startswith strip update upper values zfill bit_length add discard sort isascii isdecimal "
-    "removeprefix removesuffix __init__").split())
+    "append clear copy count endswith extend find get index insert isalnum isalpha isdigit islower isspace "
+    "isupper items join keys ljust lower lstrip partition pop remove replace reverse rfind rjust rpartition "
+    "rsplit rstrip setdefault split splitlines startswith strip update upper values zfill bit_length add discard "
+    "sort isascii isdecimal removeprefix removesuffix __init__").split())
 
-BARRED = set("register mro elements open input law version_info with_traceback add_note eval exec globals locals vars".split())
+BARRED = set((
+    "register mro elements open input law version_info with_traceback add_note eval exec globals locals vars").split())
 
-WORDS = r"\b(type|typing|enum|Enum|ABC|namedtuple|NamedTuple|TypedDict|abstractmethod)\b|dataclass|overload|contextmanager"
+WORDS = (
+    r"\b(type|typing|enum|Enum|ABC|namedtuple|NamedTuple|TypedDict|abstractmethod)\b"
+    r"|dataclass|overload|contextmanager")
 
 STATEMENTS = (ast.Expr, ast.ImportFrom, ast.FunctionDef, ast.ClassDef, ast.Assign)
 

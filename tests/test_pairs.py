@@ -134,8 +134,8 @@ class Endless(unittest.TestCase):
         good = [((), (0, 1)), ((0,), (1, 0)), ((0, 1), (0, 1)), ((0, 1) * 500, (0, 1) * 500), ((), (0, 1, 0, 1))]
         self.assertEqual([shows_endless_film(ONE, OTHER, 1, value) for value in good], [True] * 5)
         bad = [
-            ((), ()), ((0, 1), ()), ((0,), (0, 1)[:0]), ((), (2,)), ((2,), (0, 1)), None, (0, 1), ((0, 1),), [(), (0, 1)],
-            ([], (0, 1)), ((), [0, 1]), ((), (0, 1), ()), ((), (False, True)), ((), (0, 100)), ((-1,), (0, 1)),
+            ((), ()), ((0, 1), ()), ((), (2,)), ((2,), (0, 1)), None, (0, 1), ((0, 1),), [(), (0, 1)], ([], (0, 1)),
+            ((), [0, 1]), ((), (0, 1), ()), ((), (False, True)), ((), (0, 100)), ((-1,), (0, 1)),
             ((), "01"), ((), (0, None)), ((), ((0,), (1,))), {0: (), 1: (0, 1)}]
         self.assertEqual([shows_endless_film(ONE, OTHER, 1, value) for value in bad], [False] * len(bad))
 
@@ -195,8 +195,9 @@ class Several(unittest.TestCase):
         self.assertIsNone(least_gap(ROW, LATE))
         # A picture that one of six states in a round bears: five others stand between.
         self.assertEqual([least_gap(RING, ZERO), least_gap(RING, FIVE), least_gap(FIVE, RING)], [5, 5, 5])
-        self.assertEqual([longest_open(RING, ZERO, gap) for gap in [0, 4, 5, 6, 20, None]], [1, 1, None, None, None, None])
-        self.assertEqual([longest_open(RING, FIVE, gap) for gap in [0, 4, 5, 6, 20, None]], [0, 0, None, None, None, None])
+        gaps = [0, 4, 5, 6, 20, None]
+        self.assertEqual([longest_open(RING, ZERO, gap) for gap in gaps], [1, 1, None, None, None, None])
+        self.assertEqual([longest_open(RING, FIVE, gap) for gap in gaps], [0, 0, None, None, None, None])
 
     def test_all_come_out(self):
         self.assertIs(all_come_out((STILL, ZERO, FIVE), None), True)

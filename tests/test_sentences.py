@@ -67,8 +67,9 @@ class SmallReels(unittest.TestCase):
                         self.assertEqual(longest_open(one, other, gap), wanted)
                         self.assertIs(comes_out(one, other, gap), wanted is not None)
                         self.assertEqual(open_film(one, other, gap) in both, wanted is not None)
+                        some = sorted(shown[one] | shown[other])
                         self.assertEqual(
-                            [film for film in sorted(shown[one] | shown[other]) if shows_open_film(one, other, gap, film)],
+                            [film for film in some if shows_open_film(one, other, gap, film)],
                             [film for film in sorted(both) if len(film) == wanted])
                     lengths.append(wanted)
         self.assertEqual(set(lengths), {None, 0, 1, 2})
