@@ -1,6 +1,6 @@
 """What the arguments of the package's functions must be, and the errors for what they must not."""
 
-from dropframes.errors import BadFilm, BadGap, BadReel, BadReels
+from dropframes.errors import BadFilm, BadGap, BadPicture, BadReel, BadReels, BadStep
 
 MOST_STATES = 6
 FEWEST_REELS = 2
@@ -44,6 +44,21 @@ def are_nexts(value):
     return all([is_next_row(row, len(value)) for row in value])
 
 
+def is_place(value, one, other):
+    """Tell whether a value is a place of two reels: the number of one of them, and a state of it."""
+    if not isinstance(value, tuple) or len(value) != 2 or not is_integer(value[0], 0, 1):
+        return False
+    nexts = one[0] if value[0] == 0 else other[0]
+    return is_integer(value[1], 0, len(nexts) - 1)
+
+
+def is_lot(value, one, other):
+    """Tell whether a value is an ascending tuple of places of two reels."""
+    if not isinstance(value, tuple) or not all([is_place(place, one, other) for place in value]):
+        return False
+    return list(value) == sorted(set(value))
+
+
 def wrong_part(value):
     """Return the first of the words "reel", "nexts", "pictures" that names what is wrong, None for a reel."""
     if not isinstance(value, tuple) or len(value) != 2:
@@ -76,6 +91,25 @@ def check_gap(gap):
     """Raise BadGap for a value that is no gap."""
     if gap is not None and not is_integer(gap, 0, MOST_GAP):
         raise BadGap("a gap is an integer from 0 to 20, or None")
+
+
+def check_two(one, other, gap):
+    """Raise the error of the first argument that is not two reels and a gap."""
+    check_reel(one)
+    check_reel(other)
+    check_gap(gap)
+
+
+def check_picture(picture):
+    """Raise BadPicture for a value that is no picture."""
+    if not is_picture(picture):
+        raise BadPicture("a picture is an integer from 0 to 99")
+
+
+def check_lot(lot, one, other):
+    """Raise BadStep for a value that is no lot of places of two reels."""
+    if not is_lot(lot, one, other):
+        raise BadStep("a lot is an ascending tuple of pairs of the number of a reel, 0 or 1, and a state of it")
 
 
 def check_film(film):

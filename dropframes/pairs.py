@@ -1,6 +1,6 @@
 """Pairs of states of two reels: whether it surely comes out which of the two reels shows a film."""
 
-from dropframes.checks import MOST_GAP, check_gap, check_reel, check_reels, is_film
+from dropframes.checks import MOST_GAP, check_gap, check_reel, check_reels, check_two, is_film
 from dropframes.films import ahead_of_all, can_show, states_behind
 from dropframes.reels import leaps
 
@@ -112,13 +112,6 @@ def most_open(reels, gap):
                 return None
             most = max(most, longest)
     return most
-
-
-def check_two(one, other, gap):
-    """Raise the error of the first argument that is not two reels and a gap."""
-    check_reel(one)
-    check_reel(other)
-    check_gap(gap)
 
 
 def start_pair(one, other):

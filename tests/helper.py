@@ -54,6 +54,32 @@ WRONG_FILMS = [None] + [value for value in VALUES if not isinstance(value, tuple
     (7,) * 1001, (7,) * 5000, (7,) * 999 + (100,), ({},),
 ]
 
+WRONG_PICTURES = [None] + [value for value in VALUES if isinstance(value, bool) or value not in range(100)]
+
+# What is no lot of places of any two reels.
+WRONG_LOTS = [None] + [value for value in VALUES if value != ()] + [
+    ((0, 6),), ((1, 6),), ((2, 0),), ((-1, 0),), ((0, -1),), ((1, -1),), ((0, 10 ** 40),), ((10 ** 40, 0),),
+    ((True, 0),), ((False, 0),), ((0, True),), ((0, False),), ((0, 0), (True, 0)), ((0, 0), (1, False)),
+    ((1, 0), (0, 0)), ((0, 0), (0, 0)), ((1, 0), (1, 0)), ((0, 0, 0),), ((0,),), ([0, 0],), ((0, 0), [1, 0]),
+    ((0, 0), 0), ((0, 0), None), (None, (0, 0)), ((0, None),), ((None, 0),), ((0, "0"),), (("0", 0),), ("00",),
+    ((0, (0,)),), (((0, 0),),), [(0, 0)], {(0, 0): True}, (0, 0), (0, 0, 1, 0), ((0, 0), ()), ({0: 0},),
+]
+
+# Texts that tell nothing, wrong at their line 0 whoever reads them.
+WRONG_TEXTS = [None] + VALUES + [
+    "\n", "\n\n", " ", " \n", "film", "reel 0", "state 0 picture 5 next 0", "stat 0\n", "films 0\n", "reels 0\n",
+    ("film\n",), ["film\n"], {"film\n": 0}, {0: "state 0 picture 5 next 0\n"}, "\rfilm\n", "#\n", "%\n", "state\n",
+]
+
+
+def raised(function, *arguments):
+    """Return the name and the fields of the error that a call raises, None if it raises none."""
+    try:
+        function(*arguments)
+    except ValueError as error:
+        return type(error).__name__, vars(error)
+    return None
+
 
 def drawn_reel(chance, most_states, pool):
     """Draw a reel of at most so many states, with pictures out of a pool."""
@@ -161,3 +187,44 @@ def passed(reel):
     """Return the most states on one run that do not recur, run by run."""
     back = recurring(reel)
     return max(len(set(run) - set(back)) for run in runs(reel, len(reel[0])))
+
+
+def states_at_frame(reel, gap, states, picture):
+    """Return the set of the states at a next frame of this picture, walking on from these; from None, ahead of all."""
+    nexts, pictures = reel
+    most = len(nexts) if gap is None else gap
+    walked = {0} if states is None else {after for state in states for after in nexts[state]}
+    found = set()
+    for _ in range(most + 1):
+        found |= {state for state in walked if pictures[state] == picture}
+        walked = {after for state in walked for after in nexts[state]}
+    return frozenset(found)
+
+
+def sets_behind_films(one, other, gap):
+    """Return for each two sets of states behind a film those behind it and one picture more, picture by picture.
+
+    The first ones are (None, None), ahead of all frames; behind a film that not both can show nothing is asked.
+    """
+    found, waiting = {}, [(None, None)]
+    while waiting:
+        both = waiting.pop()
+        if both not in found:
+            found[both] = {}
+            if frozenset() not in both:
+                for picture in set(one[1]) | set(other[1]):
+                    found[both][picture] = (
+                        states_at_frame(one, gap, both[0], picture), states_at_frame(other, gap, both[1], picture))
+                waiting += found[both].values()
+    return found
+
+
+def stays_open_for_ever(one, other, gap):
+    """Tell whether an endless row of pictures has only open beginnings, set of states by set of states."""
+    graph = sets_behind_films(one, other, gap)
+    ways = {both: {after for after in graph[both].values() if frozenset() not in after} for both in graph}
+    ended = {both for both in ways if not ways[both]}
+    while ended:
+        ways = {both: ways[both] - ended for both in ways if both not in ended}
+        ended = {both for both in ways if not ways[both]}
+    return (None, None) in ways

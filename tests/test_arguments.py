@@ -1,12 +1,14 @@
 """What holds of every function (point 1): wrong arguments, their errors, arguments left as they are."""
 
 import copy
+import inspect
 import itertools
 import unittest
 
 import dropframes.errors
-from dropframes import films, pairs, reels
-from helper import ONE, OTHER, STILL, VALUES, WRONG_FILMS, WRONG_GAPS, WRONG_MANY, WRONG_REELS
+from dropframes import benches, films, paints, pairs, reels, sames, texts
+from helper import (
+    ONE, OTHER, STILL, VALUES, WRONG_FILMS, WRONG_GAPS, WRONG_LOTS, WRONG_MANY, WRONG_REELS, WRONG_TEXTS)
 
 FUNCTIONS = {
     reels: {"recurring_states": ["reel"], "recurring_pictures": ["reel"], "passing": ["reel"]},
@@ -19,6 +21,16 @@ FUNCTIONS = {
         "ranks": ["reel", "reel", "gap"], "endless_film": ["reel", "reel", "gap"],
         "shows_endless_film": ["reel", "reel", "gap", "any"], "least_gap": ["reel", "reel"],
         "all_come_out": ["reels", "gap"], "most_open": ["reels", "gap"]},
+    paints: {
+        "repaints": ["reel", "reel", "gap"], "fewest_repaints": ["reel", "reel", "gap"],
+        "repainted": ["reel", "reel", "lot"]},
+    benches: {"Bench": ["reels", "gap"]},
+    texts: {
+        "reel_text": ["reel"], "reels_text": ["reels"], "film_text": ["film"], "tale": ["reels", "gap", "film"],
+        "read_reel": ["text of a reel"], "read_reels": ["text of reels"], "read_film": ["text of a film"]},
+    sames: {
+        "covers": ["reel", "reel", "gap"], "are_same": ["reel", "reel", "gap"],
+        "parting_film": ["reel", "reel", "gap"], "least_gap_alike": ["reel", "reel"], "folded": ["reel"]},
 }
 
 NAMES = {
@@ -26,7 +38,11 @@ NAMES = {
     "comes_out": "one other gap", "longest_open": "one other gap", "open_film": "one other gap",
     "shows_open_film": "one other gap value", "ranks": "one other gap", "endless_film": "one other gap",
     "shows_endless_film": "one other gap value", "least_gap": "one other", "all_come_out": "reels gap",
-    "most_open": "reels gap", "recurring_states": "reel", "recurring_pictures": "reel", "passing": "reel"}
+    "most_open": "reels gap", "recurring_states": "reel", "recurring_pictures": "reel", "passing": "reel",
+    "repaints": "one other gap", "fewest_repaints": "one other gap", "repainted": "one other lot",
+    "Bench": "reels gap", "reel_text": "reel", "reels_text": "reels", "film_text": "film", "tale": "reels gap film",
+    "read_reel": "text", "read_reels": "text", "read_film": "text", "covers": "one other gap",
+    "are_same": "one other gap", "parting_film": "one other gap", "least_gap_alike": "one other", "folded": "reel"}
 
 SIX = (((0, 1, 2, 3, 4, 5),) * 6, (0, 99, 0, 99, 0, 99))
 
@@ -34,6 +50,10 @@ SIX = (((0, 1, 2, 3, 4, 5),) * 6, (0, 99, 0, 99, 0, 99))
 RIGHT = {
     "reel": [STILL, ONE, SIX], "gap": [0, 20, None, 1], "film": [(), (0,), (0, 99), (7,) * 1000],
     "reels": [(ONE, OTHER), (STILL, SIX, STILL, ONE, OTHER, SIX)], "any": [None, (), 5],
+    "lot": [(), ((0, 0),), ((1, 0),), ((0, 0), (1, 0))],
+    "text of a reel": ["state 0 picture 0 next 1\nstate 1 picture 99 next 0 1\n"],
+    "text of reels": ["reel 0\nstate 0 picture 0 next 0\nreel 1\nstate 0 picture 99 next 0\n"],
+    "text of a film": ["film\n", "film 0 99\n"],
 }
 
 # Wrong ones, each with the error that it raises and its fields.
@@ -43,12 +63,23 @@ WRONG = {
     "film": [(value, "BadFilm", {}) for value in WRONG_FILMS],
     "reels": [(value, "BadReels", {"index": index}) for value, index in WRONG_MANY],
     "any": [],
+    "lot": [(value, "BadStep", {}) for value in WRONG_LOTS],
+    "text of a reel": [(value, "BadLine", {"line": 0}) for value in WRONG_TEXTS + RIGHT["text of a film"]],
+    "text of reels": [(value, "BadLine", {"line": 0}) for value in WRONG_TEXTS + RIGHT["text of a reel"]],
+    "text of a film": [(value, "BadLine", {"line": 0}) for value in WRONG_TEXTS + RIGHT["text of reels"]],
 }
 
 
 def listed():
     """Return each function of the interface with the kinds of its arguments."""
     return [(getattr(file, name), kinds) for file, names in FUNCTIONS.items() for name, kinds in names.items()]
+
+
+def told(answer):
+    """Return what an answer tells, as a string."""
+    if isinstance(answer, benches.Bench):
+        return repr((answer.film, answer.left, answer.may_come()))
+    return repr(answer)
 
 
 class Arguments(unittest.TestCase):
@@ -106,16 +137,18 @@ class Arguments(unittest.TestCase):
                 before = copy.deepcopy(arguments)
                 with self.subTest(function.__name__, arguments=arguments):
                     first = function(*arguments)
-                    self.assertEqual(repr(first), repr(function(*arguments)))
+                    self.assertEqual(told(first), told(function(*arguments)))
                     self.assertEqual(repr(arguments), repr(before))
 
     def test_names_of_arguments(self):
         for function, kinds in listed():
             with self.subTest(function.__name__):
-                code = function.__code__
-                self.assertEqual(" ".join(code.co_varnames[:code.co_argcount]), NAMES[function.__name__])
-                self.assertEqual(code.co_argcount, len(kinds))
-                self.assertIsNone(function.__defaults__)
+                parameters = inspect.signature(function).parameters
+                self.assertEqual(" ".join(parameters), NAMES[function.__name__])
+                self.assertEqual(len(parameters), len(kinds))
+                for parameter in parameters.values():
+                    self.assertIs(parameter.default, inspect.Parameter.empty)
+                    self.assertIs(parameter.kind, inspect.Parameter.POSITIONAL_OR_KEYWORD)
 
     def test_defined_where_the_interface_lists_them(self):
         for file, names in FUNCTIONS.items():
@@ -137,6 +170,7 @@ class Edges(unittest.TestCase):
     def test_films(self):
         for film in [(), (0,), (99,), (0,) * 1000, (99,) * 1000]:
             self.assertIs(type(films.can_show(STILL, 0, film)), bool)
+            self.assertEqual(texts.read_film(texts.film_text(film)), film)
 
     def test_many_reels(self):
         for many in range(2, 7):

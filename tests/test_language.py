@@ -26,6 +26,9 @@ WORDS = (
     r"\b(type|typing|enum|Enum|ABC|namedtuple|NamedTuple|TypedDict|abstractmethod)\b"
     r"|dataclass|overload|contextmanager")
 
+# What may be imported from elsewhere.
+LIBRARY = {"itertools": ["combinations", "permutations", "product"]}
+
 STATEMENTS = (ast.Expr, ast.ImportFrom, ast.FunctionDef, ast.ClassDef, ast.Assign)
 
 NOT_ALLOWED = (
@@ -76,6 +79,11 @@ class Language(unittest.TestCase):
                 if isinstance(part, ast.ImportFrom):
                     with self.subTest(name, line=part.lineno):
                         self.assertIn(part, tree.body)
+                        if part.module in LIBRARY:
+                            for alias in part.names:
+                                self.assertIn(alias.name, LIBRARY[part.module])
+                                self.assertIsNone(alias.asname)
+                            continue
                         package, file = part.module.split(".")
                         self.assertEqual([package, part.level], ["dropframes", 0])
                         for alias in part.names:
@@ -84,7 +92,7 @@ class Language(unittest.TestCase):
 
     def test_no_two_files_import_from_each_other(self):
         needs = {
-            name: {part.module.split(".")[1] + ".py" for part in tree.body if isinstance(part, ast.ImportFrom)}
+            name: {part.module.split(".")[-1] + ".py" for part in tree.body if isinstance(part, ast.ImportFrom)}
             for name, tree in trees().items()}
         while needs:
             free = [name for name in needs if not needs[name] & set(needs)]
