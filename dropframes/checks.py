@@ -1,6 +1,7 @@
 """What the arguments of the package's functions must be, and the errors for what they must not."""
 
-from dropframes.errors import BadFilm, BadGap, BadPicture, BadReel, BadReels, BadStep
+from dropframes.errors import (
+    BadChance, BadFilm, BadGap, BadNumber, BadPicture, BadReel, BadReels, BadStep, BadView)
 
 MOST_STATES = 6
 FEWEST_REELS = 2
@@ -8,6 +9,7 @@ MOST_REELS = 6
 MOST_GAP = 20
 MOST_FRAMES = 1000
 LAST_PICTURE = 99
+MOST_BOTTOM = 100
 
 
 def is_integer(value, low, high):
@@ -28,13 +30,16 @@ def is_film(value):
     return all([is_picture(picture) for picture in value])
 
 
+def is_ascending(value):
+    """Tell whether a tuple of integers, or of tuples of these, is ascending."""
+    return list(value) == sorted(set(value))
+
+
 def is_next_row(value, many):
     """Tell whether a value is an ascending tuple, not empty, of states out of so many."""
     if not isinstance(value, tuple) or len(value) == 0:
         return False
-    if not all([is_integer(state, 0, many - 1) for state in value]):
-        return False
-    return list(value) == sorted(set(value))
+    return all([is_integer(state, 0, many - 1) for state in value]) and is_ascending(value)
 
 
 def are_nexts(value):
@@ -54,9 +59,26 @@ def is_place(value, one, other):
 
 def is_lot(value, one, other):
     """Tell whether a value is an ascending tuple of places of two reels."""
-    if not isinstance(value, tuple) or not all([is_place(place, one, other) for place in value]):
+    if not isinstance(value, tuple):
         return False
-    return list(value) == sorted(set(value))
+    return all([is_place(place, one, other) for place in value]) and is_ascending(value)
+
+
+def is_chance(value):
+    """Tell whether a value is a chance: a pair (top, bottom), top from 1 to bottom."""
+    if not isinstance(value, tuple) or len(value) != 2:
+        return False
+    top, bottom = value
+    return is_integer(bottom, 1, MOST_BOTTOM) and is_integer(top, 1, bottom)
+
+
+def is_view(value, one, other):
+    """Tell whether a value is a view of two reels."""
+    # A tuple of pictures is what a film is, and none of a view is longer than a film may be.
+    if not isinstance(value, tuple) or not all([is_film(lot) and is_ascending(lot) for lot in value]):
+        return False
+    shown = sorted([picture for lot in value for picture in lot])
+    return is_ascending(value) and shown == sorted(set(one[1] + other[1]))
 
 
 def wrong_part(value):
@@ -116,3 +138,21 @@ def check_film(film):
     """Raise BadFilm for a value that is no film of at most 1000 frames."""
     if not is_film(film):
         raise BadFilm("a film is a tuple of at most 1000 integers from 0 to 99")
+
+
+def check_many(many, most):
+    """Raise BadNumber for a value that is no integer from 0 to the most."""
+    if not is_integer(many, 0, most):
+        raise BadNumber(f"this is no integer from 0 to {most}")
+
+
+def check_chance(chance):
+    """Raise BadChance for a value that is no chance."""
+    if not is_chance(chance):
+        raise BadChance("a chance is a pair of integers, the second one from 1 to 100, the first from 1 to the second")
+
+
+def check_view(view, one, other):
+    """Raise BadView for a value that is no view of two reels."""
+    if not is_view(view, one, other):
+        raise BadView("a view is an ascending tuple of ascending tuples, each picture of the two reels once in them")

@@ -81,8 +81,12 @@ def tale(reels, gap, film):
 
 def numbers_left(shown, frame):
     """Return the words for the numbers of those that show so many frames, shown telling how many each one does."""
-    left = [number for number, many in enumerate(shown) if many >= frame]
-    return spaced(left) if len(left) > 0 else "none"
+    return spaced_or_none([number for number, many in enumerate(shown) if many >= frame])
+
+
+def spaced_or_none(things):
+    """Return the words for some things, parted by single spaces, the word none without any."""
+    return spaced(things) if len(things) > 0 else "none"
 
 
 def spaced(things):

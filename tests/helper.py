@@ -65,6 +65,27 @@ WRONG_LOTS = [None] + [value for value in VALUES if value != ()] + [
     ((0, (0,)),), (((0, 0),),), [(0, 0)], {(0, 0): True}, (0, 0), (0, 0, 1, 0), ((0, 0), ()), ({0: 0},),
 ]
 
+# What is no view of two of the reels above, nor of these and one with the pictures 0 and 99.
+WRONG_VIEWS = [None] + VALUES + [
+    (0, 7), (0, 1, 7, 99), ([0, 7],), [(0, 7)], ((0, 7, 0),), ((7, 0),), ((7, 7),), ((7,), (7,)), ((0,), (0, 7)),
+    ((7,), (0,)), ((0, 1, 7, 99, 100),), ((0, 1, 7, 50, 99),), ((-1, 7),), ((False, 7),), ((0, True, 7),), (("7",),),
+    ("7",), ({7: 7},), {(7,): (7,)}, (((7,),),), ((7, None),), ((7,), None), (None, (7,)), ((7,), [0]), ((7,), 0),
+    ((0, 99), (1, 7), (7,)), ((7,), (0, 1)), ((99,), (7,)), ((7,) * 5000,), ((0,), (0,), (7,)), ((10 ** 40,),),
+]
+
+WRONG_CHANCES = [None] + [value for value in VALUES if value != (5, 5)] + [
+    (0, 1), (1, 0), (0, 0), (2, 1), (100, 99), (1, 101), (101, 101), (101, 100), (-1, -1), (-1, 2), (1, -2),
+    (True, 1), (1, True), (True, True), (False, 1), (1,), (1, 2, 3), (1, 2, 1), [1, 2], {1: 2}, ("1", "2"), "12",
+    (None, 1), (1, None), ((1,), 2), (1, (2,)), ((1, 2),), (1, [2]), (10 ** 40, 10 ** 40), (1, 10 ** 40), ({}, 1),
+]
+
+
+def wrong_numbers(most):
+    """Return values that are no integers from 0 to the most."""
+    values = [None, most + 1, -1, 2 * most, 10 ** 40, str(most), (most,), [most], {most: most}]
+    return values + [value for value in VALUES if isinstance(value, bool) or value not in range(most + 1)]
+
+
 # Texts that tell nothing, wrong at their line 0 whoever reads them.
 WRONG_TEXTS = [None] + VALUES + [
     "\n", "\n\n", " ", " \n", "film", "reel 0", "state 0 picture 5 next 0", "stat 0\n", "films 0\n", "reels 0\n",

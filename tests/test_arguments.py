@@ -6,9 +6,10 @@ import itertools
 import unittest
 
 import dropframes.errors
-from dropframes import benches, films, paints, pairs, reels, sames, texts
+from dropframes import benches, desks, filmcounts, films, means, paints, pairs, reels, sames, texts, views
 from helper import (
-    ONE, OTHER, STILL, VALUES, WRONG_FILMS, WRONG_GAPS, WRONG_LOTS, WRONG_MANY, WRONG_REELS, WRONG_TEXTS)
+    ONE, OTHER, STILL, VALUES, WRONG_CHANCES, WRONG_FILMS, WRONG_GAPS, WRONG_LOTS, WRONG_MANY, WRONG_REELS,
+    WRONG_TEXTS, WRONG_VIEWS, wrong_numbers)
 
 FUNCTIONS = {
     reels: {"recurring_states": ["reel"], "recurring_pictures": ["reel"], "passing": ["reel"]},
@@ -31,6 +32,13 @@ FUNCTIONS = {
     sames: {
         "covers": ["reel", "reel", "gap"], "are_same": ["reel", "reel", "gap"],
         "parting_film": ["reel", "reel", "gap"], "least_gap_alike": ["reel", "reel"], "folded": ["reel"]},
+    filmcounts: {
+        "count_films": ["reel", "gap", "many to 100"], "count_open": ["reel", "reel", "gap", "many to 100"],
+        "kept_pictures": ["reel", "reel", "gap"]},
+    means: {
+        "chance_told": ["reel", "reel", "chance", "many to 30"], "mean_told": ["reel", "reel", "chance"]},
+    views: {"viewed": ["reel", "reel", "view"], "coarsest_views": ["reel", "reel", "gap"]},
+    desks: {"Desk": ["reels", "gap"]},
 }
 
 NAMES = {
@@ -42,11 +50,24 @@ NAMES = {
     "repaints": "one other gap", "fewest_repaints": "one other gap", "repainted": "one other lot",
     "Bench": "reels gap", "reel_text": "reel", "reels_text": "reels", "film_text": "film", "tale": "reels gap film",
     "read_reel": "text", "read_reels": "text", "read_film": "text", "covers": "one other gap",
-    "are_same": "one other gap", "parting_film": "one other gap", "least_gap_alike": "one other", "folded": "reel"}
+    "are_same": "one other gap", "parting_film": "one other gap", "least_gap_alike": "one other", "folded": "reel",
+    "count_films": "reel gap many", "count_open": "one other gap many", "kept_pictures": "one other gap",
+    "chance_told": "one other chance many", "mean_told": "one other chance", "viewed": "one other view",
+    "coarsest_views": "one other gap", "Desk": "reels gap"}
 
 SIX = (((0, 1, 2, 3, 4, 5),) * 6, (0, 99, 0, 99, 0, 99))
 
-# Right arguments of each kind, the edges among them.
+
+
+def view_of_one_tuple(one, other):
+    return (tuple(sorted(set(one[1] + other[1]))),)
+
+
+def view_of_single_pictures(one, other):
+    return tuple((picture,) for picture in sorted(set(one[1] + other[1])))
+
+
+# Right arguments of each kind, the edges among them; a view depends on the two reels ahead of it.
 RIGHT = {
     "reel": [STILL, ONE, SIX], "gap": [0, 20, None, 1], "film": [(), (0,), (0, 99), (7,) * 1000],
     "reels": [(ONE, OTHER), (STILL, SIX, STILL, ONE, OTHER, SIX)], "any": [None, (), 5],
@@ -54,6 +75,8 @@ RIGHT = {
     "text of a reel": ["state 0 picture 0 next 1\nstate 1 picture 99 next 0 1\n"],
     "text of reels": ["reel 0\nstate 0 picture 0 next 0\nreel 1\nstate 0 picture 99 next 0\n"],
     "text of a film": ["film\n", "film 0 99\n"],
+    "many to 100": [0, 1, 100], "many to 30": [0, 1, 30], "chance": [(1, 1), (1, 100), (100, 100), (2, 4)],
+    "view": [view_of_one_tuple, view_of_single_pictures],
 }
 
 # Wrong ones, each with the error that it raises and its fields.
@@ -67,6 +90,10 @@ WRONG = {
     "text of a reel": [(value, "BadLine", {"line": 0}) for value in WRONG_TEXTS + RIGHT["text of a film"]],
     "text of reels": [(value, "BadLine", {"line": 0}) for value in WRONG_TEXTS + RIGHT["text of a reel"]],
     "text of a film": [(value, "BadLine", {"line": 0}) for value in WRONG_TEXTS + RIGHT["text of reels"]],
+    "many to 100": [(value, "BadNumber", {}) for value in wrong_numbers(100)],
+    "many to 30": [(value, "BadNumber", {}) for value in wrong_numbers(30)],
+    "chance": [(value, "BadChance", {}) for value in WRONG_CHANCES],
+    "view": [(value, "BadView", {}) for value in WRONG_VIEWS],
 }
 
 
@@ -75,8 +102,15 @@ def listed():
     return [(getattr(file, name), kinds) for file, names in FUNCTIONS.items() for name, kinds in names.items()]
 
 
+def settled(arguments):
+    """Return right arguments as they are passed, with the view of these reels in place of what makes it."""
+    return [value(*arguments[:2]) if callable(value) else value for value in arguments]
+
+
 def told(answer):
     """Return what an answer tells, as a string."""
+    if isinstance(answer, desks.Desk):
+        return repr([answer.do(line) for line in ["film", "left", "may", "out"]] + [answer.text()])
     if isinstance(answer, benches.Bench):
         return repr((answer.film, answer.left, answer.may_come()))
     return repr(answer)
@@ -94,7 +128,7 @@ class Arguments(unittest.TestCase):
 
     def test_every_wrong_value_in_every_place(self):
         for function, kinds in listed():
-            right = [RIGHT[kind][0] for kind in kinds]
+            right = settled([RIGHT[kind][0] for kind in kinds])
             for place, kind in enumerate(kinds):
                 for value, name, fields in WRONG[kind]:
                     self.assert_wrong(function, right[:place] + [value] + right[place + 1:], name, fields)
@@ -106,7 +140,7 @@ class Arguments(unittest.TestCase):
                 if len(places) < 2:
                     continue
                 for turn in range(0, 60, 7):
-                    arguments = [RIGHT[kind][turn % len(RIGHT[kind])] for kind in kinds]
+                    arguments = settled([RIGHT[kind][turn % len(RIGHT[kind])] for kind in kinds])
                     for place in places:
                         lot = WRONG[kinds[place]]
                         arguments[place] = lot[(turn * (place + 1)) % len(lot)][0]
@@ -133,7 +167,8 @@ class Arguments(unittest.TestCase):
 
     def test_right_arguments_raise_nothing_and_stay(self):
         for function, kinds in listed():
-            for arguments in itertools.product(*[RIGHT[kind] for kind in kinds]):
+            for rights in itertools.product(*[RIGHT[kind] for kind in kinds]):
+                arguments = settled(rights)
                 before = copy.deepcopy(arguments)
                 with self.subTest(function.__name__, arguments=arguments):
                     first = function(*arguments)

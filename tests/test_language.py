@@ -27,7 +27,7 @@ WORDS = (
     r"|dataclass|overload|contextmanager")
 
 # What may be imported from elsewhere.
-LIBRARY = {"itertools": ["combinations", "permutations", "product"]}
+LIBRARY = {"itertools": ["combinations", "permutations", "product"], "math": ["gcd"]}
 
 STATEMENTS = (ast.Expr, ast.ImportFrom, ast.FunctionDef, ast.ClassDef, ast.Assign)
 
@@ -127,8 +127,9 @@ class Language(unittest.TestCase):
                     self.assertNotIn(word, BARRED, name)
 
     def test_statements_and_methods(self):
+        own = {
+            part.name for tree in trees().values() for part in ast.walk(tree) if isinstance(part, ast.FunctionDef)}
         for name, tree in trees().items():
-            own = {part.name for part in ast.walk(tree) if isinstance(part, ast.FunctionDef)}
             for part in ast.walk(tree):
                 where = (name, getattr(part, "lineno", None))
                 self.assertNotIsInstance(part, NOT_ALLOWED, where)
